@@ -1,0 +1,1 @@
+"""Turnedapart: who goes ahead of whom, turned apart and put together."""
