@@ -2,7 +2,7 @@
 
 from turnedapart.errors import BadHome, NoLot, NoOrder, NoStanding, NoThing
 from turnedapart.pairs import (bare_arrows, differing, has_ring, is_arrow, is_ascending, is_integer,
-                               is_pair, is_thing, least_ring, least_way, led_pairs)
+                               is_pair, is_thing, least_order, least_ring, least_way, led_pairs)
 
 _MOST_THINGS = 10
 
@@ -11,7 +11,7 @@ class Home:
     """Things from 0 on, and the arrows among them: who is ahead of whom, never in a ring."""
 
     def __init__(self, many, arrows):
-        if not is_integer(many) or not 1 <= many <= _MOST_THINGS:
+        if not is_many(many):
             raise BadHome("many")
         if not _are_arrows(many, arrows):
             raise BadHome("arrows")
@@ -22,6 +22,11 @@ class Home:
 
     def __eq__(self, other):
         return isinstance(other, Home) and self.many == other.many and self.arrows == other.arrows
+
+
+def is_many(value):
+    """Whether a value is a number of things that a home can have."""
+    return is_integer(value) and 1 <= value <= _MOST_THINGS
 
 
 def _are_arrows(many, value):
@@ -55,6 +60,12 @@ def check_standing(home, thing):
         raise NoStanding()
 
 
+def check_both(home, one, other):
+    """Raise NoStanding unless both are standings."""
+    check_standing(home, one)
+    check_standing(home, other)
+
+
 def check_thing(home, thing):
     """Raise NoThing for what is no thing."""
     if not is_thing(home.many, thing):
@@ -84,18 +95,10 @@ def way(home, lot, u, v):
 def order(home, standing):
     """The least tuple of all things in which everybody stands ahead of those that it is ahead of."""
     check_standing(home, standing)
-    pairs = led_pairs(home, standing)
-    row = []
-    left = list(range(home.many))
-    while left:
-        behind = [v for u, v in pairs if u in left]
-        first = min([thing for thing in left if thing not in behind])
-        row.append(first)
-        left = [thing for thing in left if thing != first]
-    return tuple(row)
+    return least_order(list(range(home.many)), led_pairs(home, standing))
 
 
-def _is_order(home, value):
+def is_order(home, value):
     """Whether a value is a tuple of all things, each once."""
     if not isinstance(value, tuple) or not all([is_integer(thing) for thing in value]):
         return False
@@ -104,7 +107,7 @@ def _is_order(home, value):
 
 def from_order(home, order):
     """The standing with which whoever stands ahead in the order is ahead."""
-    if not _is_order(home, order):
+    if not is_order(home, order):
         raise NoOrder()
     places = {thing: place for place, thing in enumerate(order)}
     return tuple([(u, v) for u, v in home.arrows if places[v] < places[u]])
@@ -154,8 +157,7 @@ def turned_home(home, standing):
 
 def seen_from(home, standing, other):
     """The standing of turned_home(home, standing) that leads all as the other standing does here."""
-    check_standing(home, standing)
-    check_standing(home, other)
+    check_both(home, standing, other)
     apart = differing(standing, other)
     pairs = led_pairs(home, standing)
     return tuple(sorted([pair for arrow, pair in zip(home.arrows, pairs) if arrow in apart]))

@@ -33,6 +33,22 @@ def is_ascending(row):
     return all([row[k] < row[k + 1] for k in range(len(row) - 1)])
 
 
+def are_things(many, value):
+    """Whether a value is an ascending tuple of some of so many things."""
+    if not isinstance(value, tuple) or not all([is_thing(many, thing) for thing in value]):
+        return False
+    return is_ascending(value)
+
+
+def is_ring(many, pairs, value):
+    """Whether a value is a tuple of unlike things, some pairs leading from each to the next, the last to the first."""
+    if not isinstance(value, tuple) or not all([is_thing(many, thing) for thing in value]):
+        return False
+    if not value or len(set(value)) != len(value):
+        return False
+    return all([(value[k - 1], value[k]) in pairs for k in range(len(value))])
+
+
 def differing(one, other):
     """The ascending tuple of the arrows that are in just one of two lots."""
     return tuple(sorted(set(one) ^ set(other)))
@@ -41,6 +57,11 @@ def differing(one, other):
 def toggled(lot, arrow):
     """The lot with an arrow turned, or turned back if it is in the lot."""
     return differing(lot, (arrow,))
+
+
+def turned_round(pairs):
+    """The pairs, each led the other way."""
+    return [(v, u) for u, v in pairs]
 
 
 def led_pairs(home, lot):
@@ -67,16 +88,56 @@ def has_ring(many, pairs):
     return any([reach[u] >> u & 1 for u in range(many)])
 
 
+def _beyond(many, pairs):
+    """For each thing a number whose bits are the things that ways of two pairs or more lead to, without rings."""
+    reach = reaches(many, pairs)
+    # As there is no ring, whoever is behind a next thing is reached by a way of two pairs or more.
+    beyond = [0] * many
+    for u, v in pairs:
+        beyond[u] |= reach[v]
+    return beyond
+
+
 def bare_arrows(home, standing):
     """The ascending tuple of the arrows that are bare with the standing turned."""
     pairs = led_pairs(home, standing)
-    reach = reaches(home.many, pairs)
-    # As there is no ring, whoever is behind a next thing is reached by a way of two pairs or more.
-    beyond = [0] * home.many
-    for u, v in pairs:
-        beyond[u] |= reach[v]
-    bare = {(u, v): True for u, v in pairs if not beyond[u] >> v & 1}
-    return tuple([arrow for arrow, pair in zip(home.arrows, pairs) if pair in bare])
+    beyond = _beyond(home.many, pairs)
+    return tuple([arrow for arrow, (u, v) in zip(home.arrows, pairs) if not beyond[u] >> v & 1])
+
+
+def arrows_within(home, part):
+    """The arrows between two things of a part."""
+    return [(u, v) for u, v in home.arrows if u in part and v in part]
+
+
+def bare_within(home, part):
+    """The arrows that are bare in a part of the home."""
+    arrows = arrows_within(home, part)
+    beyond = _beyond(home.many, arrows)
+    return [(u, v) for u, v in arrows if not beyond[u] >> v & 1]
+
+
+def touched_lot(hands):
+    """The ascending tuple of the arrows that stand in some of the hands."""
+    return tuple(sorted({arrow for standing in hands for arrow in standing}))
+
+
+def spanned_lot(home, touched):
+    """The ascending tuple of the arrows between whose things a way leads along touched ones."""
+    reach = reaches(home.many, touched)
+    return tuple([(u, v) for u, v in home.arrows if reach[u] >> v & 1])
+
+
+def least_order(things, pairs):
+    """The least tuple of some things in which each stands ahead of those that pairs lead it to, without rings."""
+    row = []
+    left = list(things)
+    while left:
+        behind = {v: True for u, v in pairs if u in left}
+        first = min([thing for thing in left if thing not in behind])
+        row.append(first)
+        left = [thing for thing in left if thing != first]
+    return tuple(row)
 
 
 def steps_to(pairs, last):

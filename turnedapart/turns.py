@@ -1,7 +1,7 @@
 """Single turns: which arrows can be turned alone, and the shortest rows from standing to standing."""
 
 from turnedapart.errors import NoNumber, TooMany
-from turnedapart.homes import bare, check_standing
+from turnedapart.homes import bare, check_both
 from turnedapart.pairs import bare_arrows, differing, is_arrow, is_integer, toggled
 
 _MOST_BETWEEN = 5000
@@ -13,15 +13,9 @@ def alone(home, standing):
     return bare(home, standing)
 
 
-def _check_both(home, one, other):
-    """Raise NoStanding unless both are standings."""
-    check_standing(home, one)
-    check_standing(home, other)
-
-
 def steps(home, one, other):
     """The least of the shortest rows of single turns from one standing to the other."""
-    _check_both(home, one, other)
+    check_both(home, one, other)
     row = []
     standing = one
     # Each arrow in just one of both is turned once, and a bare one among them can always be first.
@@ -35,7 +29,7 @@ def steps(home, one, other):
 
 def is_steps(home, one, other, thing):
     """Whether a thing is one of the shortest rows from one standing to the other."""
-    _check_both(home, one, other)
+    check_both(home, one, other)
     if not isinstance(thing, tuple) or len(thing) != len(differing(one, other)):
         return False
     standing = one
@@ -74,7 +68,7 @@ def _rows_to(home, one, other):
 
 def many_rows(home, one, other):
     """How many shortest rows lead from one standing to the other."""
-    _check_both(home, one, other)
+    check_both(home, one, other)
     return _rows_to(home, one, other)[one]
 
 
@@ -90,7 +84,7 @@ def _first_turn(rows, standing, other, index):
 
 def row_at(home, one, other, index):
     """The shortest row with this index, among all of them ascending."""
-    _check_both(home, one, other)
+    check_both(home, one, other)
     if not is_integer(index) or index < 0:
         raise NoNumber()
     rows = _rows_to(home, one, other)
