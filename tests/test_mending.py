@@ -115,9 +115,8 @@ class Mend(unittest.TestCase):
             told = mend(home)
             self.assertIs(is_mend(home, told), True)
             self.assertEqual(fewest_ties(home), len(told))
-            if told:
-                lesser = tuples_of_pairs(home, len(told) - 1)
-                self.assertFalse([ties for ties in lesser if is_mend(home, ties)])
+            for size in range(len(told)):
+                self.assertFalse([ties for ties in tuples_of_pairs(home, size) if is_mend(home, ties)])
 
     def test_some(self):
         self.assertEqual((fewest_ties(Home(6, ())), mend(Home(6, ()))), (0, ()))
