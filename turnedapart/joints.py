@@ -16,7 +16,7 @@ def is_hands(home, thing):
     return all([is_standing(home, standing) for standing in thing])
 
 
-def _check_hands(home, hands):
+def check_hands(home, hands):
     """Raise NoHands for what is no hands."""
     if not is_hands(home, hands):
         raise NoHands()
@@ -24,13 +24,13 @@ def _check_hands(home, hands):
 
 def spanned(home, hands):
     """The lot of the arrows between whose things a way leads along touched ones."""
-    _check_hands(home, hands)
+    check_hands(home, hands)
     return spanned_lot(home, touched_lot(hands))
 
 
 def reason(home, hands, arrow):
     """The least of the shortest ways along touched arrows from an arrow's first thing to its second one, or None."""
-    _check_hands(home, hands)
+    check_hands(home, hands)
     if not is_arrow(home, arrow):
         raise NoArrow()
     u, v = arrow
@@ -39,7 +39,7 @@ def reason(home, hands, arrow):
 
 def is_joint(home, hands, thing):
     """Whether a thing is a standing that has all touched arrows."""
-    _check_hands(home, hands)
+    check_hands(home, hands)
     return is_standing(home, thing) and _has_all(thing, touched_lot(hands))
 
 
@@ -104,7 +104,7 @@ def _is_side(home, hands, free, side):
 
 def least_joints(home, hands):
     """The ascending list of all joint standings within which no other one lies."""
-    _check_hands(home, hands)
+    check_hands(home, hands)
     if home.many > _MOST_THINGS:
         raise TooMany(_MOST_THINGS)
     touched = touched_lot(hands)
@@ -132,7 +132,7 @@ def _one_arrow_less(home, standing, touched):
 
 def _kept_pairs(home, hands, kept):
     """The touched arrows turned, and the kept ones as they are."""
-    _check_hands(home, hands)
+    check_hands(home, hands)
     check_lot(home, kept)
     return turned_round(touched_lot(hands)) + list(kept)
 
