@@ -1,4 +1,4 @@
-"""Point 20, the interface, and the general rules 2 to 4, as far as there are modules for them."""
+"""Point 20, the interface, and the general rules 2 to 4."""
 
 import inspect
 import unittest
@@ -6,7 +6,7 @@ from copy import deepcopy
 from importlib import import_module
 
 from tests import slow
-from turnedapart import errors, hands, homes, turns, yard
+from turnedapart import board, errors, hands, homes, turns, yard
 
 ROW = homes.Home(4, ((0, 1), (1, 2), (2, 3), (0, 3)))
 ROUND = homes.Home(4, ((0, 1), (2, 1), (2, 3), (0, 3)))
@@ -27,12 +27,18 @@ FUNCTIONS = {
         index_of(home, standing) standing_at(home, index)""",
     "clashes": "fit(home, hands) clashes(home, hands) healer(home, hands)",
     "seen": "is_seen(home, thing) sure(home, seen) fitting(home, seen) next_look(home, seen)",
+    "allruns": """stuck_run(home, lot, crews) made_stuck(home, lot) is_stuck_run(home, lot, crews, thing)
+        is_made_stuck(home, lot, thing) many_runs(home, lot, crews)""",
+    "stages": "stages(home, one, other) is_stages(home, one, other, thing)",
+    "journals": "journal(board) recovered(home, text)",
 }
 CLASSES = {
     "homes": "Home(many, arrows) __eq__(other)",
     "hands": "Hand(home) turn(arrow) go_to(standing) back() standing() log() copy()",
     "yard": """Yard(home, lot, crews) take(c) leave(c) now() holds(c) holder(thing) lot() waits() stuck() lead(most)
         turn(arrow) change(standing) log() back() copy()""",
+    "board": """Board(home) hand() turn(h, arrow) standing(h) touched() joint() agree() age() home() tie(u, v) untie(arrow)
+        log() back() copy()""",
 }
 
 
@@ -75,10 +81,12 @@ class Interface(unittest.TestCase):
 RIGHT = {"lot": ((0, 1), (1, 2)), "standing": ((0, 1),), "order": (3, 1, 0, 2), "u": 0, "v": 3, "one": (), "index": 0,
          "other": ((0, 1), (1, 2)), "hands": (((0, 1),), ((1, 2),)), "arrow": (0, 1), "kept": ((2, 3),), "many": 4,
          "ties": ((0, 1), (1, 2)), "things": (2,), "colours": 3, "seen": (((0, 1), True),), "thing": (0, 1),
-         "arrows": ((1, 0),), "crews": (((0, 1), (2,)), ((0,),)), "c": 0, "most": 3}
+         "arrows": ((1, 0),), "crews": (((0, 1), (2,)), ((0,),)), "c": 0, "most": 3, "h": 0, "text": "hand #7\n"}
 HAND = hands.Hand(ROW)
 YARD = yard.Yard(ROW, (), RIGHT["crews"])
-VALUES = slow.ODD_VALUES + ([[(0, 1)]], {"a": [((0, 1),)]}, HAND, YARD, (HAND, YARD), errors.BadCrews([0]))
+BOARD = board.Board(ROW)
+RIGHT["board"] = BOARD
+VALUES = slow.ODD_VALUES + ([[(0, 1)]], {"a": [((0, 1),)]}, HAND, YARD, BOARD, (HAND, YARD), errors.BadCrews([0]))
 VALUES += tuple((thing,) for thing in VALUES) + tuple(((0, 1), thing) for thing in VALUES)
 VALUES += tuple((((0, 1), thing),) for thing in slow.ODD_VALUES) + tuple(((thing,),) for thing in slow.ODD_VALUES)
 
@@ -102,6 +110,9 @@ def made(name):
     if name == "Hand":
         thing = hands.Hand(ROW)
         thing.turn((1, 2))
+    elif name == "Board":
+        thing = board.Board(ROW)
+        thing.hand()
     else:
         thing = yard.Yard(ROW, (), RIGHT["crews"])
         thing.take(0)
@@ -123,7 +134,7 @@ def calls(thing):
     for home in (ROW, ROUND):
         for call, arguments in functions():
             for at, name in enumerate(arguments):
-                if name != "home":
+                if name not in ("home", "board"):
                     yield call, values_with(home, arguments, at, thing)
     for maker, arguments in methods():
         for at, name in enumerate(arguments):
@@ -147,7 +158,7 @@ class GeneralRules(unittest.TestCase):
     def test_equal_calls_give_equal_results(self):
         for thing in slow.ODD_VALUES:
             for (call, values), (again, same) in zip(calls(thing), calls(deepcopy(thing))):
-                if inspect.isclass(call):
+                if inspect.isclass(call) or call.__name__ == "recovered":
                     self.assertEqual(type(answer(call, *values)), type(answer(again, *same)))
                 else:
                     self.assertEqual(answer(call, *values), answer(again, *same), call)
@@ -156,6 +167,8 @@ class GeneralRules(unittest.TestCase):
         for call, arguments in functions():
             told = call(*[ROW if name == "home" else RIGHT[name] for name in arguments])
             again = call(*[ROW if name == "home" else RIGHT[name] for name in arguments])
+            if call.__name__ == "recovered":
+                told, again = (told[0].log(), told[1]), (again[0].log(), again[1])
             self.assertEqual(told, again)
             if isinstance(told, (list, dict)):
                 told.append(None)

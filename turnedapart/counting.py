@@ -3,7 +3,7 @@
 from turnedapart.errors import NoNumber
 from turnedapart.homes import check_standing
 from turnedapart.leads import all_leads
-from turnedapart.pairs import is_integer
+from turnedapart.pairs import is_integer, lots_within
 
 _MOST_STANDINGS = 5000
 _MOST_COLOURS = 1000
@@ -61,13 +61,7 @@ def _loose_lots(home):
 def _groups_of_least(lot):
     """All lots within a lot that have its least thing."""
     least = lot & -lot
-    rest = lot ^ least
-    groups = [lot]
-    some = rest
-    while some:
-        some = (some - 1) & rest
-        groups.append(some | least)
-    return groups
+    return [some | least for some in lots_within(lot ^ least)]
 
 
 def within(home, standing):

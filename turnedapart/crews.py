@@ -105,6 +105,18 @@ def is_move(orders, now, value):
     return isinstance(word, str) and is_integer(crew) and value in moves_now(orders, now)
 
 
+def now_behind(orders, value):
+    """The tuple of now behind a tuple of moves, or None for what is no tuple of moves that can be made so."""
+    if not isinstance(value, tuple):
+        return None
+    now = beginning(orders)
+    for move in value:
+        if not is_move(orders, now, move):
+            return None
+        now = behind(now, move)
+    return now
+
+
 def all_waits(orders, now):
     """The ascending tuple of the pairs of a crew and the one that holds what it is to take next."""
     held = all_held(orders, now)

@@ -1,8 +1,8 @@
 """A hand: somebody who begins at a home and turns arrows, one at a time."""
 
-from turnedapart.errors import NoArrow, NotBare, NothingDone
-from turnedapart.pairs import is_arrow, other_way, toggled
-from turnedapart.turns import steps
+from turnedapart.errors import NothingDone
+from turnedapart.pairs import toggled
+from turnedapart.turns import check_turn, steps
 
 
 class Hand:
@@ -15,11 +15,7 @@ class Hand:
 
     def turn(self, arrow):
         """Turn an arrow alone, or back."""
-        if not is_arrow(self._home, arrow):
-            raise NoArrow()
-        around = other_way(self._home, self._standing, arrow)
-        if around is not None:
-            raise NotBare(around)
+        check_turn(self._home, self._standing, arrow)
         self._standing = toggled(self._standing, arrow)
         self._log.append(arrow)
 

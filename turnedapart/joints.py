@@ -50,7 +50,13 @@ def _has_all(lot, touched):
 
 def joint(home, hands):
     """The one least joint standing, or None if there is none."""
-    lot = spanned(home, hands)
+    check_hands(home, hands)
+    return least_joint(home, touched_lot(hands))
+
+
+def least_joint(home, touched):
+    """The one least standing that has all touched arrows, or None."""
+    lot = spanned_lot(home, touched)
     # All spanned arrows, and no others, are in every joint standing: only they can be the least one.
     return lot if is_standing(home, lot) else None
 

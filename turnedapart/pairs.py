@@ -49,6 +49,14 @@ def is_ring(many, pairs, value):
     return all([(value[k - 1], value[k]) in pairs for k in range(len(value))])
 
 
+def lots_within(lot):
+    """All lots within a lot, itself too, where lots are told by numbers whose bits are what is in them."""
+    found = [lot]
+    while found[-1]:
+        found.append((found[-1] - 1) & lot)
+    return found
+
+
 def differing(one, other):
     """The ascending tuple of the arrows that are in just one of two lots."""
     return tuple(sorted(set(one) ^ set(other)))

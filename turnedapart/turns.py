@@ -1,8 +1,8 @@
 """Single turns: which arrows can be turned alone, and the shortest rows from standing to standing."""
 
-from turnedapart.errors import NoNumber, TooMany
+from turnedapart.errors import NoArrow, NoNumber, NotBare, TooMany
 from turnedapart.homes import bare, check_both
-from turnedapart.pairs import bare_arrows, differing, is_arrow, is_integer, toggled
+from turnedapart.pairs import bare_arrows, differing, is_arrow, is_integer, other_way, toggled
 
 _MOST_BETWEEN = 5000
 
@@ -11,6 +11,15 @@ def alone(home, standing):
     """The ascending tuple of the arrows that can be turned alone, or back."""
     # No ring is made exactly if there is no other way between an arrow's things: if it is bare.
     return bare(home, standing)
+
+
+def check_turn(home, lot, arrow):
+    """Raise NoArrow for what is no arrow, NotBare for one that can't be turned alone."""
+    if not is_arrow(home, arrow):
+        raise NoArrow()
+    around = other_way(home, lot, arrow)
+    if around is not None:
+        raise NotBare(around)
 
 
 def steps(home, one, other):

@@ -2,9 +2,10 @@
 
 from turnedapart.crews import (all_held, all_stuck, all_waits, beginning, behind, can_leave, check_crews, held_by,
                                moves_now, next_thing, orders_of)
-from turnedapart.errors import Busy, NoArrow, NoCrew, NoNumber, NotBare, NothingDone, NotNow
+from turnedapart.errors import Busy, NoCrew, NoNumber, NothingDone, NotNow
 from turnedapart.homes import check_lot, check_standing, check_thing
-from turnedapart.pairs import bare_arrows, differing, is_arrow, is_integer, is_thing, other_way, toggled
+from turnedapart.pairs import bare_arrows, differing, is_integer, is_thing, toggled
+from turnedapart.turns import check_turn
 
 _MOST_LED = 10000
 
@@ -99,11 +100,7 @@ class Yard:
 
     def turn(self, arrow):
         """Turn an arrow alone, or back."""
-        if not is_arrow(self._home, arrow):
-            raise NoArrow()
-        around = other_way(self._home, self._lot, arrow)
-        if around is not None:
-            raise NotBare(around)
+        check_turn(self._home, self._lot, arrow)
         busy = self._busy_with(arrow)
         if busy:
             raise Busy(busy[0])
