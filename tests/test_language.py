@@ -13,6 +13,10 @@ CALLED = set("""len range enumerate zip min max sum abs sorted reversed int str 
                 ord repr any all divmod""".split())
 ERRORS = {name for name, value in vars(builtins).items() if isinstance(value, type) and issubclass(value, Exception)}
 ALLOWED = (ast.FunctionDef, ast.ClassDef, ast.ImportFrom, ast.Assign, ast.Expr)
+METHODS = set("""append clear copy count endswith extend find get index insert isalnum isalpha isdigit islower isspace
+                 isupper items join keys ljust lower lstrip partition pop remove replace reverse rfind rjust rpartition
+                 rsplit rstrip setdefault split splitlines startswith strip update upper values zfill bit_length
+                 isdecimal""".split())
 FEEDING = {"any", "all", "min", "max", "sum", "sorted"}
 
 
@@ -90,3 +94,25 @@ class Rules(unittest.TestCase):
         for path, node, place in self.each(ast.Call):
             if isinstance(node.func, ast.Name) and node.func.id in FEEDING:
                 self.assertFalse([value for value in node.args if isinstance(value, ast.GeneratorExp)], place)
+
+    def test_methods_of_builtin_values(self):
+        own = {node.name for _, made, _ in self.each(ast.ClassDef) for node in made.body
+               if isinstance(node, ast.FunctionDef)}
+        for path, node, place in self.each(ast.Call):
+            if isinstance(node.func, ast.Attribute):
+                self.assertIn(node.func.attr, METHODS | own, place)
+
+    def test_sets_are_not_iterated_or_kept(self):
+        fine = {id(node) for _, call, _ in self.each(ast.Call) if isinstance(call.func, ast.Name)
+                and call.func.id in ("sorted", "len") for part in call.args for node in ast.walk(part)}
+        for path, node, place in self.each(ast.SetComp, ast.Set, ast.Call):
+            if not isinstance(node, ast.Call) or isinstance(node.func, ast.Name) and node.func.id == "set":
+                self.assertIn(id(node), fine, place)
+
+    def test_files_do_not_import_from_each_other(self):
+        uses = {path.stem: {node.module.split(".")[1] for node in nodes_in(path, ast.ImportFrom)
+                            if node.module.startswith("turnedapart.")} for path in FILES}
+        while uses:
+            free = [name for name, others in uses.items() if not others & set(uses)]
+            self.assertTrue(free, uses)
+            uses = {name: others for name, others in uses.items() if name not in free}
